@@ -1,0 +1,1 @@
+"""Spanrow: all trees of a web in one row."""
