@@ -46,11 +46,10 @@ def made_set(web, ties):
     return tuple(ties)
 
 
-# For each place the least place of its piece: two places are in one piece just
-# where these are the same. The ties are taken as they are, since every asker
-# has looked at them by then.
-def piece_marks(web, ties):
-    marks = list(range(web.places))
+# The marks once these ties are taken besides, two pieces joined by one of them
+# under the lesser mark. The ties are taken as they are, since every asker has
+# looked at them by then.
+def merged_marks(web, marks, ties):
     for tie in ties:
         ends = web.ties[tie]
         low = min(marks[ends[0]], marks[ends[1]])
@@ -58,6 +57,12 @@ def piece_marks(web, ties):
         if low < high:
             marks = [low if mark == high else mark for mark in marks]
     return marks
+
+
+# For each place the least place of its piece: two places are in one piece just
+# where these are the same.
+def piece_marks(web, ties):
+    return merged_marks(web, list(range(web.places)), ties)
 
 
 def pieces_of(web, ties):

@@ -1,6 +1,7 @@
 """Webs to test with, and answers found by going through everything, apart from the program's own ways."""
 
 from itertools import combinations, combinations_with_replacement, product
+from random import Random
 
 from spanrow.webs import Web
 
@@ -82,3 +83,37 @@ def plain_exchanges(web, tree):
 
 def web_state(web):
     return (web.places, list(web.ties))
+
+
+def chance_webs(seed, many, most_places, most_ties):
+    """Webs as chance has it, the same ones each time for one seed; some are not joined."""
+    chance = Random(seed)
+    webs = []
+    for number in range(many):
+        places = chance.randint(1, most_places)
+        size = chance.randint(0, most_ties)
+        webs.append(Web(places, [(chance.randrange(places), chance.randrange(places)) for tie in range(size)]))
+    return webs
+
+
+def great_webs(seed, many):
+    """Joined webs of 14 places and 30 ties, loops and twins among them, as chance has it."""
+    chance = Random(seed)
+    webs = []
+    for number in range(many):
+        ties = [(chance.randrange(place), place) for place in range(1, 14)]
+        ties += [(chance.randrange(14), chance.randrange(14)) for tie in range(17)]
+        chance.shuffle(ties)
+        webs.append(Web(14, ties))
+    return webs
+
+
+def wheel_web():
+    """A hub and a rim of 13 places, with 26 ties: its trees are known to be 271441."""
+    rim = [(place, place % 13 + 1) for place in range(1, 14)]
+    return Web(14, rim + [(0, place) for place in range(1, 14)])
+
+
+def trees_with(web, inside, outside):
+    """The trees with some ties and without some others, ascending."""
+    return [tree for tree in plain_trees(web) if set(inside) <= set(tree) and not set(outside) & set(tree)]
