@@ -1,7 +1,7 @@
 """How many trees a web has, by determinants."""
 
 from spanrow.tables import determinant, table_without
-from spanrow.webs import Web, made_set, piece_marks
+from spanrow.webs import Web, have_common, made_set, piece_marks
 
 
 # The pull table with a weight for each tie in the place of 1.
@@ -44,6 +44,6 @@ def part_count(web, inside, outside):
 def count_with(web, inside, outside):
     inside = made_set(web, inside)
     outside = made_set(web, outside)
-    if any([tie in outside for tie in inside]):
+    if have_common(inside, outside):
         return 0
     return part_count(web, inside, outside)

@@ -1,7 +1,7 @@
 """Webs made of webs: drawn together at a tie, left without one, put together at a place."""
 
-from spanrow.errors import BadWeb, NoTie, Parted
-from spanrow.webs import Web, is_joined, is_tie
+from spanrow.errors import BadWeb, NoTie
+from spanrow.webs import Web, all_ties, is_joined, is_place, refuse_no_tie, refuse_parted, ties_without
 
 # Each tie may double the work of counting by parting.
 MOST_PARTED_TIES = 12
@@ -9,11 +9,6 @@ MOST_PARTED_TIES = 12
 
 def is_loop(ends):
     return ends[0] == ends[1]
-
-
-def refuse_no_tie(web, tie):
-    if not is_tie(web, tie):
-        raise NoTie(f"{tie} is no tie of the web")
 
 
 def left_without(web, tie):
@@ -42,15 +37,9 @@ def drawn_together(web, tie):
     return drawn_web(web.places, web.ties[:tie] + web.ties[tie + 1:], min(ends), max(ends))
 
 
-def refuse_parted(web):
-    if not is_joined(web, list(range(len(web.ties)))):
-        raise Parted("the web is not joined")
-
-
 def needed_ties(web):
     refuse_parted(web)
-    others = list(range(len(web.ties) - 1))
-    return tuple([tie for tie in range(len(web.ties)) if not is_joined(left_without(web, tie), others)])
+    return tuple([tie for tie in all_ties(web) if not is_joined(web, ties_without(all_ties(web), tie))])
 
 
 def idle_ties(web):
@@ -59,9 +48,9 @@ def idle_ties(web):
 
 
 def put_together(web, place, other, other_place):
-    if not 0 <= place < web.places:
+    if not is_place(web, place):
         raise BadWeb(f"{place} is no place of the first web")
-    if not 0 <= other_place < other.places:
+    if not is_place(other, other_place):
         raise BadWeb(f"{other_place} is no place of the second web")
     behind = [(ends[0] + web.places, ends[1] + web.places) for ends in other.ties]
     return drawn_web(web.places + other.places, web.ties + behind, place, other_place + web.places)

@@ -1,7 +1,9 @@
 """Trees of a web, their rings and cuts, and the exchanges that lead from tree to tree."""
 
-from spanrow.errors import NoTie, NoTree, Parted
-from spanrow.webs import is_joined, is_set, is_tie, joined_ends, piece_marks
+from spanrow.errors import NoTie, NoTree
+from spanrow.webs import (
+    all_ties, is_joined, is_set, is_tie, merged_marks, piece_marks, refuse_parted, ties_without,
+)
 
 
 def is_tree(web, ties):
@@ -14,20 +16,27 @@ def refuse_no_tree(web, tree):
         raise NoTree("no tree of the web")
 
 
+# The tree of the ties inside and, as they come in the order, of all others that
+# close no ring with what stands by then; None where the ties inside close one,
+# or where all of them together don't join all places. All trees are of one
+# size, so to take each tie as soon as it may stand gives the tree that is
+# ahead in that order.
+def grown_tree(web, inside, order):
+    marks = piece_marks(web, ())
+    grown = []
+    for tie in list(inside) + list(order):
+        ends = web.ties[tie]
+        if marks[ends[0]] != marks[ends[1]]:
+            marks = merged_marks(web, marks, (tie,))
+            grown.append(tie)
+    if grown[:len(inside)] != list(inside) or len(grown) < web.places - 1:
+        return None
+    return tuple(sorted(grown))
+
+
 def least_tree(web):
-    # All trees are of one size, so to take each tie as soon as it closes no
-    # ring gives the least of them.
-    tree = ()
-    for tie, ends in enumerate(web.ties):
-        if not joined_ends(web, tree, ends[0], ends[1]):
-            tree = tree + (tie,)
-    if len(tree) < web.places - 1:
-        raise Parted("the web is not joined, so it has no tree")
-    return tree
-
-
-def ties_without(ties, left_out):
-    return tuple([tie for tie in ties if tie != left_out])
+    refuse_parted(web)
+    return grown_tree(web, (), all_ties(web))
 
 
 # The cut, for a tree and a tie of it that have been looked at already.

@@ -1,6 +1,6 @@
 """Webs of places and ties, sets of ties, and the pieces into which the places fall over them."""
 
-from spanrow.errors import BadSet, BadWeb
+from spanrow.errors import BadSet, BadWeb, NoTie, Parted
 
 MOST_PLACES = 14
 MOST_TIES = 30
@@ -26,8 +26,33 @@ def refuse_bad_web(places, ties):
                 raise BadWeb(f"{end} is no place")
 
 
+def is_place(web, number):
+    return 0 <= number < web.places
+
+
 def is_tie(web, number):
     return 0 <= number < len(web.ties)
+
+
+def refuse_no_tie(web, number):
+    if not is_tie(web, number):
+        raise NoTie(f"{number} is no tie of the web")
+
+
+def all_ties(web):
+    return tuple(range(len(web.ties)))
+
+
+def ties_beside(web, ties):
+    return tuple([tie for tie in range(len(web.ties)) if tie not in ties])
+
+
+def ties_without(ties, left_out):
+    return tuple([tie for tie in ties if tie != left_out])
+
+
+def have_common(one, other):
+    return any([tie in other for tie in one])
 
 
 def is_set(web, ties):
@@ -76,6 +101,11 @@ def pieces_of(web, ties):
 
 def is_joined(web, ties):
     return len(pieces_of(web, ties)) == 1
+
+
+def refuse_parted(web):
+    if not is_joined(web, all_ties(web)):
+        raise Parted("the web is not joined")
 
 
 def joined_ends(web, ties, one, other):

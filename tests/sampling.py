@@ -5,6 +5,18 @@ from random import Random
 
 from spanrow.webs import Web
 
+# As far from 0 as a number that is handed in may be.
+FAR = 10 ** 60 - 1
+# A loop (3), twins (1 and 2), the rest a ring of three places with one hung on.
+WEB = Web(4, [(0, 1), (1, 2), (2, 1), (3, 3), (2, 0), (0, 3)])
+# All trees of this web, and what is no tree or no set of its ties.
+TREES = ((0, 1, 5), (0, 2, 5), (0, 4, 5), (1, 4, 5), (2, 4, 5))
+NO_TREES = (
+    [], [0, 1], [0, 1, 4], [0, 1, 2], [1, 2, 5], [0, 3, 5], [0, 1, 4, 5], [0, 0, 5], [5, 1, 0], [1, 0, 5],
+    [0, 1, 6], [-1, 0, 1], [0, 1, -1], [0, 1, FAR], [-FAR, 0, 1],
+)
+NO_SETS = ([0, 0], [1, 0], [0, 2, 1], [6], [0, 6], [-1], [-1, 0], [FAR], [-FAR], [0, 1, 2, 3, 4, 5, 6])
+
 
 def small_webs():
     """All webs of 1 to 3 places and up to 4 ties, but for the order of a tie's ends."""

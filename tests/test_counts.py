@@ -2,13 +2,13 @@ import unittest
 from random import Random
 
 from sampling import (
-    all_sets, chance_webs, fullest_web, great_webs, plain_trees, small_webs, some_webs, trees_with, web_state, wheel_web,
+    FAR, all_sets, chance_webs, fullest_web, great_webs, plain_trees, small_webs, some_webs, trees_with, web_state,
+    wheel_web,
 )
 from spanrow.counts import count_with, pull_table, tree_count
 from spanrow.errors import BadSet
 from spanrow.webs import Web
 
-FAR = 10 ** 59
 LOOPED = Web(3, [(0, 1), (1, 1), (2, 0), (1, 0)])
 NO_SETS = ([0, 0], [1, 0], [0, 2, 1], [4], [0, 4], [-1], [-1, 0], [FAR], [-FAR], [0, 1, 2, 3, 4])
 

@@ -1,16 +1,14 @@
 import unittest
 
 from sampling import (
-    chance_webs, fullest_web, great_webs, joined_webs, joins_all, plain_trees, small_webs, some_webs, web_state,
+    FAR, WEB, chance_webs, fullest_web, great_webs, joined_webs, joins_all, plain_trees, small_webs, some_webs,
+    web_state,
 )
 from spanrow.counts import count_with, tree_count
 from spanrow.errors import BadWeb, NoTie, Parted
 from spanrow.making import count_by_parting, drawn_together, idle_ties, left_without, needed_ties, put_together
 from spanrow.webs import Web
 
-FAR = 10 ** 59
-# A loop (3), twins (1 and 2), the rest a ring of three places with one hung on.
-WEB = Web(4, [(0, 1), (1, 2), (2, 1), (3, 3), (2, 0), (0, 3)])
 SOME = some_webs() + chance_webs(51, 60, 6, 9)
 
 

@@ -2,21 +2,14 @@ import unittest
 from itertools import product
 
 from sampling import (
-    all_sets, fullest_web, is_plain_tree, joined_webs, plain_exchanges, plain_trees, reached, small_webs, some_webs,
-    web_state,
+    FAR, NO_TREES, WEB, all_sets, fullest_web, is_plain_tree, joined_webs, plain_exchanges, plain_trees, reached,
+    small_webs, some_webs, web_state,
 )
 from spanrow.errors import NoTie, NoTree, Parted
 from spanrow.trees import cut_of, exchanged, exchanges_of, is_tree, least_tree, ring_of
 from spanrow.webs import Web
 
-FAR = 10 ** 59
 JOINED = joined_webs()
-# A loop (3), twins (1 and 2), the rest a ring of three places with one hung on.
-WEB = Web(4, [(0, 1), (1, 2), (2, 1), (3, 3), (2, 0), (0, 3)])
-NO_TREES = (
-    [], [0, 1], [0, 1, 4], [0, 1, 2], [1, 2, 5], [0, 3, 5], [0, 1, 4, 5], [0, 0, 5], [5, 1, 0], [1, 0, 5],
-    [0, 1, 6], [-1, 0, 1], [0, 1, -1], [0, 1, FAR], [-FAR, 0, 1],
-)
 
 
 def wrong_ties(web):

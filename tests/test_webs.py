@@ -1,10 +1,9 @@
 import unittest
 
-from sampling import all_sets, fullest_web, reached, small_webs, some_webs, web_state
+from sampling import FAR, all_sets, fullest_web, reached, small_webs, some_webs, web_state
 from spanrow.errors import BadSet, BadWeb
 from spanrow.webs import Web, is_joined, joined_ends, made_set, pieces_of
 
-FAR = 10 ** 59
 LOOPED = Web(3, [(0, 1), (1, 1), (2, 0), (1, 0)])
 NO_SETS = ([0, 0], [1, 1], [1, 0], [0, 2, 1], [4], [0, 4], [-1], [-1, 0], [0, -1], [-4], [FAR], [-FAR], [0, 1, 2, 3, 4])
 
