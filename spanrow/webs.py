@@ -1,6 +1,6 @@
 """Webs of places and ties, sets of ties, and the pieces into which the places fall over them."""
 
-from spanrow.errors import BadSet, BadWeb, NoTie, Parted
+from spanrow.errors import BadRow, BadSet, BadWeb, NoTie, Parted
 
 MOST_PLACES = 14
 MOST_TIES = 30
@@ -37,6 +37,12 @@ def is_tie(web, number):
 def refuse_no_tie(web, number):
     if not is_tie(web, number):
         raise NoTie(f"{number} is no tie of the web")
+
+
+# Lengths and weights alike: one for each tie.
+def refuse_bad_row(web, numbers):
+    if len(numbers) != len(web.ties):
+        raise BadRow("there are not as many numbers as ties")
 
 
 def all_ties(web):
