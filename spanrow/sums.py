@@ -19,9 +19,9 @@ def tree_sum(web, weights):
     return determinant(table_without(weighted_table(web, weights), web.places - 1))
 
 
-# The factors, from that of t ** 0 on, of a sum that is told for t = base, where
-# none of them is below 0 or as great as the base: the figures of the sum, if
-# it were written in that base.
+# The factors, by the rising powers of t, of a sum that is told for t = base,
+# where none of them is below 0 or as great as the base: so they are the figures
+# of the sum, if it were written in that base.
 def factors_of(number, base, many):
     factors = []
     for power in range(many):

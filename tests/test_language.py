@@ -32,8 +32,8 @@ WORDS = re.compile(
 UNUSED = set("register mro elements open input version_info with_traceback add_note format format_map".split())
 METHODS_WITH_UNDERSCORES = ("__init__", "__eq__", "__repr__", "__str__", "__len__")
 NOT_AS_NAMES = set(
-    "attrgetter breakpoint builtins compile copyright credits delattr dir eval exec exit gc getattr globals hasattr help "
-    "id importlib license locals methodcaller os quit setattr super type vars sys chr".split()
+    "attrgetter breakpoint builtins compile copyright credits delattr dir eval exec exit gc getattr globals hasattr "
+    "help id importlib license locals methodcaller os quit setattr super type vars sys chr".split()
 )
 KEYWORDS = {
     "sorted": {"key", "reverse"}, "min": {"key", "default"}, "max": {"key", "default"}, "sum": {"start"},
