@@ -18,9 +18,9 @@ def heights_of(web, one, other):
             raise NoSuch(f"{place} is no place of the web")
     refuse_parted(web)
     sums = [0] * web.places
-    sums[one] += 1
-    sums[other] -= 1
-    # The height of the other place is known, and its sum follows from all the others.
+    sums[one] = 1
+    # The height of the other place is known, and its sum follows from all the
+    # others; so it is left out, and with it the 1 where the two are one place.
     heights = solved(table_without(pull_table(web), other), row_without(sums, other))
     return heights[:other] + ((0, 1),) + heights[other:]
 
@@ -36,7 +36,6 @@ def fraction_less(one, other):
 def lean_of(web, tie, other):
     refuse_no_tie(web, tie)
     refuse_no_tie(web, other)
-    refuse_parted(web)
     ends = web.ties[tie]
     other_ends = web.ties[other]
     heights = heights_of(web, ends[0], ends[1])

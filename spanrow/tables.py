@@ -73,7 +73,6 @@ def with_column(table, column, right):
 
 
 def solved(table, right):
-    refuse_not_square(table)
     if len(right) != len(table):
         raise NotSquare("the list is not as long as there are rows")
     whole = determinant(table)
